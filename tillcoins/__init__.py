@@ -1,0 +1,1 @@
+"""Systems of coins, and the greatest coin first."""
