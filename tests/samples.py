@@ -26,10 +26,12 @@ NO_SYSTEMS = [
     (None,), (1, None), (1.0,), (1, 2.0), (1, [2]), (1, (2,)), ((1, 2),), (1, object()),
 ]
 
-NO_SUMS = [
-    -1, -2000, 2001, 2002, HUGE, -HUGE, True, False, "", "5", "0", None,
-    0.0, 5.0, [], [5], (), (5,), {}, {5}, b"5", object(), len,
+NO_NUMBERS = [
+    HUGE, -HUGE, True, False, "", "5", "0", "1", None,
+    0.0, 1.0, 5.0, [], [5], (), (5,), {}, {5}, b"5", object(), len, range(5),
 ]
+
+NO_SUMS = [-1, -2000, 2001, 2002] + NO_NUMBERS
 
 # No way of a system of three coins.
 NO_WAYS = [
@@ -50,6 +52,19 @@ EDGE_SYSTEMS = [
     (1, 2, 3, 4, 5, 6, 7, 8), (1, 194, 195, 196, 197, 198, 199, 200),
     (1, 2, 5, 10, 20, 50, 100, 200),
 ]
+
+CENTS = (1, 5, 10, 25, 50, 100)
+PENCE = (1, 2, 5, 10, 20, 50, 100, 200)
+
+NOT_ORDERLY = [
+    (1, 3, 4), (1, 10, 25), (1, 2, 4, 5), (1, 199, 200), (1, 5, 6, 8, 11),
+    (1, 194, 195, 196, 197, 198, 199, 200),
+]
+
+
+def no_numbers_from(least, most):
+    """What is no whole number from the one to the other."""
+    return [least - 1, least - 2, most + 1, most + 2] + NO_NUMBERS
 
 
 def small_systems(greatest):
@@ -85,6 +100,35 @@ def greatest_one_by_one(system, number):
 def best_of(ways):
     """Of these the one with the fewest coins, then with most of the greatest coin, and on."""
     return min(ways, key=lambda way: (sum(way), [-times for times in reversed(way)]))
+
+
+def fewest_by_trying(system, last):
+    """How many coins the sums from 0 to last need: all sums of one coin are made, of two, and on."""
+    found, newest, many = {0: 0}, {0}, 0
+    while len(found) <= last:
+        many += 1
+        newest = {number + coin for number in newest for coin in system} - found.keys()
+        newest = {number for number in newest if number <= last}
+        found.update((number, many) for number in newest)
+    return [found[number] for number in range(last + 1)]
+
+
+def faults_by_trying(system, last):
+    """All sums up to last for which the greatest first, one coin at a time, takes more than are needed."""
+    needed = fewest_by_trying(system, last)
+    taken = [sum(greatest_one_by_one(system, number)) for number in range(last + 1)]
+    return [number for number in range(last + 1) if taken[number] > needed[number]]
+
+
+def handed_by_trying(system, last):
+    """How many coins to and fro the sums from 0 to last need: all sums of one coin are made, of two, and on."""
+    found, newest, many = {0: 0}, {0}, 0
+    steps = [sign * coin for coin in system for sign in (1, -1)]
+    while not all(number in found for number in range(last + 1)):
+        many += 1
+        newest = {number + step for number in newest for step in steps} - found.keys()
+        found.update((number, many) for number in newest)
+    return [found[number] for number in range(last + 1)]
 
 
 class RefusalCase(unittest.TestCase):

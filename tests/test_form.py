@@ -16,6 +16,11 @@ ALLOWED_NAMES = set("""
 WORDS_LEFT_OUT = re.compile(
     r"\b(type|typing|typing_extensions|enum|Enum|IntEnum|StrEnum|Flag|IntFlag|Generic|Protocol|ABC|ABCMeta"
     r"|namedtuple|NamedTuple|TypedDict|TYPE_CHECKING|abstractmethod)\b|dataclass|overload|contextmanager")
+ALLOWED_METHODS = set("""
+    append clear copy count endswith extend find get index insert isalnum isalpha isdigit islower isspace isupper
+    items join keys ljust lower lstrip partition pop remove replace reverse rfind rjust rpartition rsplit rstrip
+    setdefault split splitlines startswith strip update upper values zfill bit_length
+""".split())
 STATEMENTS_LEFT_OUT = (
     ast.With, ast.Match, ast.Delete, ast.Global, ast.Nonlocal, ast.Assert, ast.Yield, ast.YieldFrom, ast.Await,
     ast.AsyncFunctionDef, ast.SetComp, ast.DictComp, ast.GeneratorExp, ast.NamedExpr, ast.Starred, ast.Import,
@@ -43,6 +48,32 @@ class FormTest(unittest.TestCase):
     def test_no_form_that_is_left_out(self):
         for path, node in self.nodes(STATEMENTS_LEFT_OUT):
             self.fail(f"{path.name}: {ast.dump(node)}")
+
+    def test_of_pythons_own_methods_only_those_that_are_listed(self):
+        for path, node in self.nodes(ast.Attribute):
+            self.assertIn(node.attr, ALLOWED_METHODS, f"{path.name}:{node.lineno}")
+
+    def test_names_are_plain_and_none_hides_one_of_pythons_own(self):
+        for path, node in self.nodes((ast.Name, ast.arg, ast.FunctionDef, ast.ClassDef)):
+            name = getattr(node, "id", None) or getattr(node, "arg", None) or getattr(node, "name", None)
+            place = f"{path.name}:{node.lineno}"
+            self.assertRegex(name, r"\A[A-Za-z][A-Za-z0-9_]*\Z", place)
+            if not isinstance(node, ast.Name) or isinstance(node.ctx, ast.Store):
+                self.assertFalse(hasattr(builtins, name), place)
+
+    def test_one_target_in_an_assignment(self):
+        for path, node in self.nodes(ast.Assign):
+            self.assertEqual(len(node.targets), 1, f"{path.name}:{node.lineno}")
+
+    def test_no_two_files_draw_from_one_another(self):
+        drawn = {}
+        for path, node in self.nodes(ast.ImportFrom):
+            drawn.setdefault(path.stem, set()).add(node.module.rpartition(".")[2])
+        while drawn:
+            ready = [name for name, others in drawn.items() if not others & drawn.keys()]
+            self.assertTrue(ready, sorted(drawn))
+            for name in ready:
+                drawn.pop(name)
 
     def test_no_float(self):
         for path, node in self.nodes(ast.Constant):

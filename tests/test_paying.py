@@ -1,15 +1,13 @@
 import unittest
 
 from tests.samples import (
-    EDGE_SYSTEMS, NO_SUMS, NO_SYSTEMS, NO_WAYS, RefusalCase,
+    CENTS, EDGE_SYSTEMS, NO_SUMS, NO_SYSTEMS, NO_WAYS, PENCE, RefusalCase,
     all_ways, best_of, greatest_one_by_one, small_systems,
 )
 from tillcoins.errors import BadSum, BadSystem, BadWay
 from tillcoins.paying import by_fewest, by_greatest, count_ways, excess, fewest, sum_of
 
 OF_A_SUM = (fewest, by_greatest, by_fewest, count_ways, excess)
-CENTS = (1, 5, 10, 25, 50, 100)
-PENCE = (1, 2, 5, 10, 20, 50, 100, 200)
 
 
 class AgainstTryingTest(unittest.TestCase):

@@ -76,6 +76,13 @@ def fewest_up_to(system, last):
     return table
 
 
+def greatest_first_up_to(system, last):
+    table = [0]
+    for number in range(1, last + 1):
+        table.append(1 + table[number - max([coin for coin in system if coin <= number])])
+    return table
+
+
 def times_in_fewest(table, number, coin):
     # A coin stands in some way with the fewest coins just if the rest needs one coin less.
     # So taking it as long as that holds gives the most of it that such a way can have.
